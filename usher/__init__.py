@@ -1,0 +1,1 @@
+"""Usher: askers led to servers, and nobody moved without need."""
