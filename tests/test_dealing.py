@@ -2,6 +2,7 @@ import itertools
 import unittest
 from fractions import Fraction
 
+from by_words import dealt as dealt_by_words
 from usher.caps import caps_of
 from usher.dealing import dealt, height, is_lighter
 from usher.errors import NoLine, NoRoom, NoServer, Twice, Unknown, UsherError
@@ -20,17 +21,6 @@ def small_cases():
 
 def rooms(held, caps):
     return [cap - number if cap > number else 0 for number, cap in zip(held, caps)]
-
-
-def dealt_by_words(held, weights, caps, many):
-    # Point 14 with fractions: the least load of those below their cap, of like ones the first place.
-    numbers = list(held)
-    places = []
-    for turn in range(many):
-        below = [place for place in range(len(numbers)) if numbers[place] < caps[place]]
-        places.append(min(below, key=lambda place: (Fraction(numbers[place] + 1, weights[place]), place)))
-        numbers[places[-1]] += 1
-    return places
 
 
 def got_of(places, length):
